@@ -1,0 +1,1 @@
+"""Lockhouse: a canal whose keeper leads every boat home."""

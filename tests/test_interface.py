@@ -1,0 +1,60 @@
+"""The interface of DOC.md: names, arguments and defaults, as they stand there."""
+
+import importlib
+import inspect
+import unittest
+
+SIGNATURES = {
+    "lockhouse.vessels": {
+        "poured": "(waters, source, target, amount, keep=0)",
+        "poured_all": "(waters, pours)",
+        "gains": "(pours, many)",
+        "total": "(waters)",
+    },
+    "lockhouse.weirs": {
+        "over": "(weirs, waters, at)",
+        "spilled": "(weirs, waters, at, most=None)",
+        "still": "(weirs, waters)",
+        "settled": "(weirs, waters)",
+        "spills": "(weirs, waters)",
+    },
+    "lockhouse.kinds": {
+        "PlainLock": "(name, high, low, room)",
+        "BasinLock": "(name, high, low, room, side)",
+        "PumpLock": "(name, high, low, room, lift)",
+    },
+}
+
+METHODS = {
+    "lockhouse.kinds": {
+        name: {
+            "fill_parts": "(self, basin)",
+            "let_parts": "(self, basin)",
+            "kind": "(self)",
+            "extra": "(self)",
+        }
+        for name in ("PlainLock", "BasinLock", "PumpLock")
+    },
+}
+
+
+class Interface(unittest.TestCase):
+    def test_functions_and_classes(self):
+        for module, names in SIGNATURES.items():
+            for name, wanted in names.items():
+                with self.subTest(module=module, name=name):
+                    value = getattr(importlib.import_module(module), name)
+                    self.assertEqual(str(inspect.signature(value)), wanted)
+                    self.assertEqual(value.__module__, module)
+
+    def test_methods(self):
+        for module, classes in METHODS.items():
+            for name, methods in classes.items():
+                for method, wanted in methods.items():
+                    with self.subTest(module=module, name=name, method=method):
+                        value = getattr(getattr(importlib.import_module(module), name), method)
+                        self.assertEqual(str(inspect.signature(value)), wanted)
+
+
+if __name__ == "__main__":
+    unittest.main()

@@ -1,0 +1,133 @@
+"""The rules of LANGUAGE.md that can be read off the package's files."""
+
+import ast
+import builtins
+import pathlib
+import re
+import unittest
+
+PACKAGE = pathlib.Path(__file__).resolve().parent.parent / "lockhouse"
+
+OWN_NAMES = set(
+    "len range enumerate zip min max sum abs sorted reversed int str bool list tuple dict set frozenset "
+    "isinstance ord repr any all divmod Exception ValueError TypeError KeyError IndexError LookupError "
+    "ZeroDivisionError ArithmeticError OverflowError RuntimeError NotImplementedError AttributeError "
+    "StopIteration".split()
+)
+OWN_METHODS = set(
+    "append clear copy count endswith extend find get index insert isalnum isalpha isdigit islower isspace "
+    "isupper items join keys ljust lower lstrip partition pop remove replace reverse rfind rjust rpartition "
+    "rsplit rstrip setdefault split splitlines startswith strip update upper values zfill bit_length".split()
+)
+DUNDERS = {"__init__", "__eq__", "__repr__", "__str__", "__len__"}
+BARRED_WORDS = re.compile(
+    r"\b(type|typing|typing_extensions|enum|Enum|IntEnum|StrEnum|Flag|IntFlag|Generic|Protocol|ABC|ABCMeta|"
+    r"namedtuple|NamedTuple|TypedDict|TYPE_CHECKING|abstractmethod)\b|dataclass|overload|contextmanager"
+)
+BARRED_NODES = (
+    ast.With, ast.Match, ast.Delete, ast.Global, ast.Nonlocal, ast.Assert, ast.Yield, ast.YieldFrom,
+    ast.AsyncFunctionDef, ast.AsyncFor, ast.AsyncWith, ast.Await, ast.Div, ast.SetComp, ast.DictComp,
+    ast.GeneratorExp, ast.NamedExpr, ast.Starred, ast.AnnAssign, ast.Import, ast.MatMult,
+)
+
+
+def sources():
+    return {path: path.read_text(encoding="utf-8") for path in sorted(PACKAGE.rglob("*.py"))}
+
+
+def trees():
+    return {path: ast.parse(text) for path, text in sources().items()}
+
+
+def nodes_of(kind):
+    return [(path, node) for path, tree in trees().items() for node in ast.walk(tree) if isinstance(node, kind)]
+
+
+class Language(unittest.TestCase):
+    def none(self, faults):
+        self.assertEqual([], [(path.name, getattr(node, "lineno", node)) for path, node in faults])
+
+    def test_files(self):
+        for path in PACKAGE.rglob("*"):
+            if "__pycache__" not in path.parts and path.is_file():
+                self.assertRegex(path.name, r"^[a-z0-9_]+\.py$")
+
+    def test_signs_words_and_sizes(self):
+        for path, text in sources().items():
+            with self.subTest(path=path.name):
+                self.assertRegex(text, r"\A[ -~\n]*\Z")
+                self.assertIsNone(BARRED_WORDS.search(text))
+                rows = text.splitlines()
+                self.assertLessEqual(len(rows), 400)
+                self.assertLessEqual(max([len(row) for row in rows], default=0), 120)
+        self.none([(p, n) for p, n in nodes_of(ast.FunctionDef) if n.end_lineno - n.lineno + 1 > 40])
+
+    def test_imports_draw_from_the_defining_file_and_never_in_a_ring(self):
+        draws = {}
+        for path, node in nodes_of(ast.ImportFrom):
+            self.assertEqual(node.level, 0)
+            self.assertRegex(node.module, r"^lockhouse\.[a-z0-9_]+$")
+            home = PACKAGE / (node.module.split(".")[1] + ".py")
+            draws.setdefault(path, set()).add(home)
+            for name in node.names:
+                held = [getattr(item, "name", None) for item in trees()[home].body]
+                held += [item.targets[0].id for item in trees()[home].body if isinstance(item, ast.Assign)]
+                self.assertIn(name.name, held)
+        while draws:
+            free = [path for path in draws if not draws[path] & set(draws)]
+            self.assertTrue(free, "files draw from one another")
+            draws = {path: homes for path, homes in draws.items() if path not in free}
+
+    def test_the_top_of_a_file(self):
+        allowed = (ast.ImportFrom, ast.FunctionDef, ast.ClassDef, ast.Assign)
+        for path, tree in trees().items():
+            self.assertIsNotNone(ast.get_docstring(tree), path.name)
+            self.none([(path, node) for node in tree.body[1:] if not isinstance(node, allowed)])
+
+    def test_statements_and_expressions(self):
+        self.none(nodes_of(BARRED_NODES))
+        self.none([(p, n) for p, n in nodes_of((ast.For, ast.While)) if n.orelse])
+        self.none([(p, n) for p, n in nodes_of(ast.Try) if n.finalbody])
+        self.none([(p, n) for p, n in nodes_of(ast.Assign) if len(n.targets) > 1])
+        self.none([(p, n) for p, n in nodes_of(ast.Constant) if isinstance(n.value, (float, bytes, complex))])
+        self.none([(p, n) for p, n in nodes_of(ast.ListComp)
+                   if len(n.generators) > 1 or len(n.generators[0].ifs) > 1])
+
+    def test_functions_are_plain(self):
+        self.none([(p, n) for p, n in nodes_of(ast.arguments) if n.vararg or n.kwarg or n.kwonlyargs or n.posonlyargs])
+        self.none([(p, n) for p, n in nodes_of((ast.FunctionDef, ast.ClassDef)) if n.decorator_list])
+
+    def test_classes_are_plain(self):
+        for path, node in nodes_of(ast.ClassDef):
+            self.assertLessEqual(len(node.bases), 1)
+            self.none([(path, item) for item in node.body if not isinstance(item, (ast.FunctionDef, ast.Pass))])
+
+    def test_no_name_is_a_method_in_one_class_and_a_value_in_another(self):
+        methods = {item.name for p, node in nodes_of(ast.ClassDef) for item in node.body
+                   if isinstance(item, ast.FunctionDef)}
+        self.none([(p, n) for p, n in nodes_of(ast.Attribute)
+                   if isinstance(n.ctx, ast.Store) and n.attr in methods])
+
+    def test_names(self):
+        bound = [(p, n.id, n) for p, n in nodes_of(ast.Name) if isinstance(n.ctx, ast.Store)]
+        bound += [(p, n.arg, n) for p, n in nodes_of(ast.arg)]
+        bound += [(p, n.name, n) for p, n in nodes_of((ast.FunctionDef, ast.ClassDef)) if n.name not in DUNDERS]
+        self.none([(p, n) for p, name, n in bound if name.startswith("_")])
+        local = [(p, n) for p, name, n in bound if hasattr(builtins, name) and not isinstance(n, ast.FunctionDef)]
+        self.none(local)
+
+    def test_of_pythons_own_only_what_is_listed(self):
+        self.none([(p, n) for p, n in nodes_of(ast.Name) if hasattr(builtins, n.id) and n.id not in OWN_NAMES])
+        own = {n.name for p, n in nodes_of(ast.FunctionDef)}
+        self.none([(p, n) for p, n in nodes_of(ast.Call) if isinstance(n.func, ast.Attribute)
+                   and n.func.attr not in OWN_METHODS | own | DUNDERS])
+
+    def test_is_stands_beside_none_true_and_false_alone(self):
+        for path, node in nodes_of(ast.Compare):
+            for sign, right in zip(node.ops, node.comparators):
+                if isinstance(sign, (ast.Is, ast.IsNot)):
+                    self.assertTrue(isinstance(right, ast.Constant) and right.value in (None, True, False))
+
+
+if __name__ == "__main__":
+    unittest.main()
