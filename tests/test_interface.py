@@ -23,6 +23,30 @@ SIGNATURES = {
         "BasinLock": "(name, high, low, room, side)",
         "PumpLock": "(name, high, low, room, lift)",
     },
+    "lockhouse.chamber": {
+        "Chamber": "(lock, waters, least)",
+    },
+    "lockhouse.passing": {
+        "passing": "(full, way)",
+        "work": "(chamber, words)",
+        "filling": "(lock, basin)",
+        "letting": "(lock, basin)",
+        "passage": "(lock, full, basin, way)",
+    },
+    "lockhouse.turns": {
+        "fills": "(full, row)",
+        "ends_full": "(full, row)",
+        "fewest": "(full, ups, downs)",
+        "thrifty": "(full, row)",
+    },
+    "lockhouse.drawing": {
+        "drawn": "(lock, full, basin, row)",
+        "basin_behind": "(lock, full, basin, row)",
+    },
+    "lockhouse.words": {
+        "is_name": "(word)",
+        "number_of": "(word)",
+    },
 }
 
 METHODS = {
@@ -34,6 +58,14 @@ METHODS = {
             "extra": "(self)",
         }
         for name in ("PlainLock", "BasinLock", "PumpLock")
+    },
+    "lockhouse.chamber": {
+        "Chamber": {
+            "waters": "(self)",
+            "gates": "(self)",
+            "boat": "(self)",
+            "do": "(self, word)",
+        },
     },
 }
 

@@ -3,18 +3,7 @@
 import unittest
 
 from lockhouse.kinds import BasinLock, PlainLock, PumpLock
-
-LARGE = 10 ** 3999
-
-
-def every_small_lock():
-    """Pairs of a lock and what its basin holds, each in all that fits."""
-    for room in range(1, 6):
-        yield PlainLock("gate", 2, 1, room), 0
-        for extra in range(1, room + 1):
-            yield PumpLock("gate", 2, 1, room, extra), 0
-            for basin in range(extra + 1):
-                yield BasinLock("gate", 2, 1, room, extra), basin
+from tests.helpers import LARGE, every_small_lock
 
 
 class Values(unittest.TestCase):

@@ -24,6 +24,15 @@ BARRED_WORDS = re.compile(
     r"\b(type|typing|typing_extensions|enum|Enum|IntEnum|StrEnum|Flag|IntFlag|Generic|Protocol|ABC|ABCMeta|"
     r"namedtuple|NamedTuple|TypedDict|TYPE_CHECKING|abstractmethod)\b|dataclass|overload|contextmanager"
 )
+BARRED_ANYWHERE = set("register mro elements open input version_info with_traceback add_note format format_map".split())
+BARRED_NAMES = set(
+    "attrgetter breakpoint builtins compile copyright credits delattr dir eval exec exit gc getattr globals hasattr "
+    "help id importlib license locals methodcaller os quit setattr super type vars sys chr".split()
+)
+# L26: what a value of an object may be called though Python's own values have it, and what a method may.
+FREE_VALUES = set("count index title find get join lower upper split strip copy add".split())
+FREE_METHODS = OWN_METHODS | {"add", "discard"}
+PYTHONS = {name for kind in (str, int, list, dict, set, bytes, tuple) for name in dir(kind)}
 BARRED_NODES = (
     ast.With, ast.Match, ast.Delete, ast.Global, ast.Nonlocal, ast.Assert, ast.Yield, ast.YieldFrom,
     ast.AsyncFunctionDef, ast.AsyncFor, ast.AsyncWith, ast.Await, ast.Div, ast.SetComp, ast.DictComp,
@@ -84,6 +93,26 @@ class Language(unittest.TestCase):
             self.assertIsNotNone(ast.get_docstring(tree), path.name)
             self.none([(path, node) for node in tree.body[1:] if not isinstance(node, allowed)])
 
+    def test_values_at_the_top_are_plain_and_hold_no_list_or_dict(self):
+        for path, tree in trees().items():
+            bound = [node.targets[0].id for node in tree.body if isinstance(node, ast.Assign)]
+            self.assertEqual(len(bound), len(set(bound)), path.name)
+            for node in tree.body:
+                if isinstance(node, ast.Assign):
+                    ast.literal_eval(node.value)
+                    inner = [item for item in ast.walk(node.value) if item is not node.value]
+                    self.none([(path, item) for item in inner if isinstance(item, (ast.List, ast.Dict, ast.Set))])
+
+    def test_what_stands_at_the_top_is_never_changed(self):
+        for path, tree in trees().items():
+            bound = {node.targets[0].id for node in tree.body if isinstance(node, ast.Assign)}
+            for node in ast.walk(tree):
+                if isinstance(node, ast.Subscript) and isinstance(node.ctx, ast.Store):
+                    self.assertNotIn(getattr(node.value, "id", ""), bound)
+                if isinstance(node, ast.Call) and isinstance(node.func, ast.Attribute):
+                    if getattr(node.func.value, "id", "") in bound:
+                        self.assertIn(node.func.attr, ("index", "get", "count", "items", "keys", "values", "find"))
+
     def test_statements_and_expressions(self):
         self.none(nodes_of(BARRED_NODES))
         self.none([(p, n) for p, n in nodes_of((ast.For, ast.While)) if n.orelse])
@@ -115,6 +144,28 @@ class Language(unittest.TestCase):
         self.none([(p, n) for p, name, n in bound if name.startswith("_")])
         local = [(p, n) for p, name, n in bound if hasattr(builtins, name) and not isinstance(n, ast.FunctionDef)]
         self.none(local)
+
+    def test_no_local_is_called_like_a_class_or_an_import_of_its_file(self):
+        for path, tree in trees().items():
+            held = {node.name for node in tree.body if isinstance(node, ast.ClassDef)}
+            held |= {name.name for node in tree.body if isinstance(node, ast.ImportFrom) for name in node.names}
+            for node in ast.walk(tree):
+                if isinstance(node, ast.arg):
+                    self.assertNotIn(node.arg, held)
+                if isinstance(node, ast.Name) and isinstance(node.ctx, ast.Store):
+                    self.assertNotIn(node.id, held)
+
+    def test_names_that_are_not_used(self):
+        self.none([(p, n) for p, n in nodes_of(ast.Name) if n.id in BARRED_ANYWHERE | BARRED_NAMES])
+        self.none([(p, n) for p, n in nodes_of(ast.arg) if n.arg in BARRED_ANYWHERE | BARRED_NAMES])
+        self.none([(p, n) for p, n in nodes_of(ast.Attribute) if n.attr in BARRED_ANYWHERE])
+        self.none([(p, n) for p, n in nodes_of((ast.FunctionDef, ast.ClassDef)) if n.name in BARRED_ANYWHERE])
+
+    def test_own_methods_and_values_are_not_called_like_pythons(self):
+        self.none([(p, n) for p, n in nodes_of(ast.Attribute)
+                   if isinstance(n.ctx, ast.Store) and n.attr in PYTHONS - FREE_VALUES])
+        self.none([(p, item) for p, node in nodes_of(ast.ClassDef) for item in node.body
+                   if isinstance(item, ast.FunctionDef) and item.name in PYTHONS - FREE_METHODS - DUNDERS])
 
     def test_of_pythons_own_only_what_is_listed(self):
         self.none([(p, n) for p, n in nodes_of(ast.Name) if hasattr(builtins, n.id) and n.id not in OWN_NAMES])

@@ -5,8 +5,7 @@ import unittest
 
 from lockhouse.errors import CanalError, Short
 from lockhouse.vessels import gains, poured, poured_all, total
-
-LARGE = 10 ** 3999
+from tests.helpers import LARGE
 
 
 class SinglePour(unittest.TestCase):

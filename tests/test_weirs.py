@@ -6,8 +6,7 @@ import unittest
 
 from lockhouse.vessels import total
 from lockhouse.weirs import over, settled, spilled, spills, still
-
-LARGE = 10 ** 3999
+from tests.helpers import LARGE
 
 # Reach 0 gives to the sea (3), reach 1 to reach 0, reach 2 to reach 1.
 STAIRS = [(10, 3), (20, 0), (30, 1)]
