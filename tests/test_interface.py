@@ -47,6 +47,25 @@ SIGNATURES = {
         "is_name": "(word)",
         "number_of": "(word)",
     },
+    "lockhouse.canal": {
+        "Reach": "(name, least, crest, berths, water, target)",
+        "Canal": "(reaches, locks, nights=None)",
+    },
+    "lockhouse.reading": {
+        "canal_of": "(text)",
+    },
+    "lockhouse.showing": {
+        "shown": "(canal)",
+    },
+    "lockhouse.boats": {
+        "linked": "(canal, start, steps)",
+        "begun": "(canal, ways)",
+        "reach_of": "(canal, way, place)",
+        "lying": "(canal, ways, state, reach)",
+        "all_home": "(ways, state)",
+        "steps_left": "(ways, state)",
+        "rank": "(canal, ways, state)",
+    },
 }
 
 METHODS = {
@@ -65,6 +84,20 @@ METHODS = {
             "gates": "(self)",
             "boat": "(self)",
             "do": "(self, word)",
+        },
+    },
+    "lockhouse.canal": {
+        "Canal": {
+            "reach_at": "(self, name)",
+            "lock_at": "(self, name)",
+            "many": "(self)",
+            "chamber": "(self, k)",
+            "basin": "(self, k)",
+            "sea": "(self)",
+            "sky": "(self)",
+            "weirs": "(self)",
+            "start": "(self)",
+            "full": "(self, waters, k)",
         },
     },
 }
