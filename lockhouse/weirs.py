@@ -21,8 +21,16 @@ def still(weirs, waters):
 
 
 def settled(weirs, waters):
+    return poured_all(waters, spill_pours(weirs, waters))
+
+
+def spill_pours(weirs, waters):
     given = spills(weirs, waters)
-    return poured_all(waters, [(at, weirs[at][1], given[at]) for at in last_first(weirs)])
+    return [(at, weirs[at][1], given[at]) for at in last_first(weirs) if given[at] != 0]
+
+
+def with_spills(weirs, waters, pours):
+    return pours + spill_pours(weirs, poured_all(waters, pours))
 
 
 def spills(weirs, waters):

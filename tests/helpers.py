@@ -1,9 +1,11 @@
-"""What the tests of several modules need: locks of every kind, rows of boats, canals, and numbers of many figures."""
+"""What the tests of several modules need: locks, rows of boats, canals, ways, graphs, and numbers of many figures."""
 
 import itertools
 import random
 
+from lockhouse.boats import all_home, begun, step_ends
 from lockhouse.canal import Canal, Reach
+from lockhouse.deeds import after, may
 from lockhouse.kinds import BasinLock, PlainLock, PumpLock
 
 # As many figures as are promised.
@@ -71,3 +73,116 @@ def some_canals(many, seed=4):
         called = source.sample(NAMES + ("sea",), source.randrange(0, 9) if len(names) > 1 else 0)
         locks = [some_lock(source, name, len(names)) for name in called]
         yield Canal(reaches, locks, [some_night(source, len(names)) for _ in range(source.randrange(0, 7))])
+
+
+def small_canal(source):
+    """A canal with small numbers, in which many deeds can be done and many not, each for every word."""
+    many = source.randrange(1, 5)
+    reaches = []
+    for at in range(many):
+        crest = source.randrange(8, 31)
+        least = source.randrange(0, 6)
+        reaches.append(Reach(NAMES[at], least, crest, source.randrange(1, 3), source.randrange(0, 36),
+                             source.randrange(-1, at)))
+    locks = []
+    for k in range(source.randrange(0, 5) if many > 1 else 0):
+        low, high = sorted(source.sample(range(many), 2))
+        room = source.randrange(1, 7)
+        kind = source.choice((PlainLock, BasinLock, PumpLock))
+        extra = [] if kind is PlainLock else [source.randrange(1, room + 1)]
+        locks.append(kind(NAMES[k], high, low, room, *extra))
+    nights = [[(source.randrange(0, 12), source.choice((0, 3, 9, 40))) for _ in range(many)]
+              for _ in range(source.randrange(0, 4))]
+    return Canal(reaches, locks, nights)
+
+
+def some_way(source, canal):
+    """A linked way of 1 to 8 steps; the canal has a lock."""
+    first = source.choice([(k, side) for k in range(len(canal.locks)) for side in ("up", "down")])
+    steps = [first]
+    for _ in range(source.randrange(0, 8)):
+        at = step_ends(canal.locks[steps[-1][0]], steps[-1][1])[1]
+        steps.append(source.choice([(k, side) for k, lock in enumerate(canal.locks) for side in ("up", "down")
+                                    if step_ends(lock, side)[0] == at]))
+    return (step_ends(canal.locks[first[0]], first[1])[0], tuple(steps))
+
+
+def some_ways(source, canal, most=5):
+    many = source.randrange(0, most + 1) if canal.locks else 0
+    return [some_way(source, canal) for _ in range(many)]
+
+
+def some_worlds(many, seed=5):
+    """Canals, small ones and such of all sizes, each with ways; the same ones at every run."""
+    source = random.Random(seed)
+    for canal in some_canals(many, seed):
+        yield canal, some_ways(source, canal, 9)
+        small = small_canal(source)
+        yield small, some_ways(source, small)
+
+
+def some_moves(many, seed=5):
+    """Tuples of a canal, ways, a state, a deed that can be done in it and the state behind it, along rows of deeds."""
+    source = random.Random(seed)
+    for canal, ways in some_worlds(many, seed):
+        state = begun(canal, ways)
+        deeds = may(canal, ways, state)
+        while deeds:
+            deed = source.choice(deeds)
+            behind = after(canal, ways, state, deed)
+            yield canal, ways, state, deed, behind
+            state = behind
+            deeds = may(canal, ways, state)
+
+
+# States of every sort: numbers, texts, tuples, and tuples of tuples.
+STATES = (0, -1, "", "a", "0", (), (0,), ("a", 0), ((0, "a"), ("",)), 7, "ab", (1, (2, (3,))))
+
+
+def ahead_of(edges):
+    """The function `ahead` of a dict with a list of pairs (deed, state behind it) for each state that has deeds."""
+    return lambda state: edges.get(state, [])
+
+
+def ended_at(*states):
+    return lambda state: state in states
+
+
+def some_graphs(many, seed=6):
+    """Tuples of a first state, a dict of edges as `ahead_of` takes it, and a tuple of the ended states."""
+    source = random.Random(seed)
+    for _ in range(many):
+        states = source.sample(STATES, source.randrange(1, len(STATES) + 1))
+        dense = source.choice((0, 1, 2, 4))
+        edges = {}
+        for state in states:
+            deeds = source.sample(("x", "y", 1, ("z", 2)), source.randrange(0, dense + 1))
+            edges[state] = [(deed, source.choice(states)) for deed in deeds]
+        ended = tuple(source.sample(states, min(len(states), source.choice((0, 0, 1, 2)))))
+        yield states[0], edges, ended
+
+
+def distances(first, edges):
+    """How many deeds lead at the least to each state that is come to."""
+    far = {first: 0}
+    for _ in range(len(edges)):
+        for state, pairs in edges.items():
+            for _, behind in pairs:
+                if state in far:
+                    far[behind] = min(far.get(behind, far[state] + 1), far[state] + 1)
+    return far
+
+
+def ahead_on(canal, ways):
+    """The functions `ahead` and `ended` of a canal: the deeds that can be done, and whether all boats are home."""
+    def ahead(state):
+        return [(deed, after(canal, ways, state, deed)) for deed in may(canal, ways, state)]
+
+    return ahead, lambda state: all_home(ways, state)
+
+
+def mill():
+    """A canal and the ways of a boat up and a boat down; the high reach can give to one fill alone."""
+    reaches = [Reach("a", 0, 50, 1, 10, -1), Reach("b", 4, 50, 1, 14, 0)]
+    canal = Canal(reaches, [PlainLock("p", 1, 0, 10)], [[(0, 0), (0, 0)]])
+    return canal, [(0, ((0, "up"),)), (1, ((0, "down"),))]

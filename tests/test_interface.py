@@ -66,6 +66,30 @@ SIGNATURES = {
         "steps_left": "(ways, state)",
         "rank": "(canal, ways, state)",
     },
+    "lockhouse.nights": {
+        "night_pours": "(canal, state, weather)",
+        "after_night": "(canal, state, weather)",
+        "wet_enough": "(weather, other)",
+    },
+    "lockhouse.deeds": {
+        "why_not": "(canal, ways, state, deed)",
+        "pours": "(canal, ways, state, deed)",
+        "after": "(canal, ways, state, deed)",
+        "may": "(canal, ways, state)",
+    },
+    "lockhouse.walking": {
+        "walked": "(canal, ways, state, row)",
+        "as_wet": "(canal, state, other)",
+    },
+    "lockhouse.search": {
+        "layered": "(first, ahead, ended, most)",
+    },
+    "lockhouse.papers": {
+        "row_holds": "(first, ahead, ended, row)",
+        "layers_hold": "(first, ahead, layers)",
+        "shows_closed": "(first, ahead, ended, layers)",
+        "shows_found": "(first, ahead, ended, row, layers)",
+    },
 }
 
 METHODS = {
