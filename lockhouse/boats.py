@@ -34,6 +34,10 @@ def lying(canal, ways, state, reach):
     return [reach_of(canal, way, place) for way, place in zip(ways, state[2])].count(reach)
 
 
+def has_no_berth(canal, ways, state, reach):
+    return lying(canal, ways, state, reach) >= canal.reaches[reach].berths
+
+
 def all_home(ways, state):
     return steps_left(ways, state) == 0
 
@@ -44,6 +48,10 @@ def steps_left(ways, state):
 
 def steps_to_do(way, place):
     return len(way[1]) - place
+
+
+def next_step(way, place):
+    return way[1][place]
 
 
 def rank(canal, ways, state):

@@ -1,6 +1,6 @@
 """The deeds: when each can be done, what it pours, and the state behind it."""
 
-from lockhouse.boats import HOME, lying, reach_of
+from lockhouse.boats import HOME, has_no_berth, next_step, reach_of
 from lockhouse.errors import NotNow
 from lockhouse.nights import night_pours
 from lockhouse.passing import letting, passage
@@ -21,7 +21,7 @@ def why_no_pass(canal, ways, state, boat):
     if reach_of(canal, ways[boat], place) == HOME:
         return "home"
     target = reach_of(canal, ways[boat], place + 1)
-    if target != HOME and lying(canal, ways, state, target) >= canal.reaches[target].berths:
+    if target != HOME and has_no_berth(canal, ways, state, target):
         return "berth"
     if falls_short(canal, state[1], pass_pours(canal, ways, state, boat)):
         return "water"
@@ -43,7 +43,7 @@ def is_below_least(canal, waters, vessel):
 
 
 def pass_pours(canal, ways, state, boat):
-    step = ways[boat][1][state[2][boat]]
+    step = next_step(ways[boat], state[2][boat])
     k = step[0]
     basin = state[1][canal.basin(k)]
     return by_number(canal, k, passage(canal.locks[k], canal.full(state[1], k), basin, step[1]))
@@ -71,7 +71,10 @@ def pours(canal, ways, state, deed):
 
 
 def after(canal, ways, state, deed):
-    waters = poured_all(state[1], pours(canal, ways, state, deed))
+    return counted_on(state, deed, poured_all(state[1], pours(canal, ways, state, deed)))
+
+
+def counted_on(state, deed, waters):
     if deed[0] == "night":
         return (state[0] + 1, waters, state[2])
     if deed[0] == "pass":

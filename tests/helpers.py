@@ -1,12 +1,15 @@
-"""What the tests of several modules need: locks, rows of boats, canals, ways, graphs, and numbers of many figures."""
+"""What the tests of several modules need: locks, rows of boats, canals, ways, graphs, books, and large numbers."""
 
+import copy
 import itertools
 import random
 
 from lockhouse.boats import all_home, begun, step_ends
+from lockhouse.book import Book
 from lockhouse.canal import Canal, Reach
 from lockhouse.deeds import after, may
 from lockhouse.kinds import BasinLock, PlainLock, PumpLock
+from lockhouse.reading import canal_of
 
 # As many figures as are promised.
 LARGE = 10 ** 3999
@@ -165,7 +168,9 @@ def some_graphs(many, seed=6):
 def distances(first, edges):
     """How many deeds lead at the least to each state that is come to."""
     far = {first: 0}
-    for _ in range(len(edges)):
+    before = {}
+    while far != before:
+        before = dict(far)
         for state, pairs in edges.items():
             for _, behind in pairs:
                 if state in far:
@@ -186,3 +191,89 @@ def mill():
     reaches = [Reach("a", 0, 50, 1, 10, -1), Reach("b", 4, 50, 1, 14, 0)]
     canal = Canal(reaches, [PlainLock("p", 1, 0, 10)], [[(0, 0), (0, 0)]])
     return canal, [(0, ((0, "up"),)), (1, ((0, "down"),))]
+
+
+def stands(book):
+    """All that a book tells, as it stands now, in lists that nobody else has."""
+    kept = (book.names(), book.ways(), book.state(), book.ledger(), book.gatework(), book.entries())
+    return (told(book.canal()),) + copy.deepcopy(kept)
+
+
+def some_weather(source, book):
+    """Weather as foretold or near it, wetter and drier, now and then with a pair too few or too many."""
+    canal = book.canal()
+    day = book.state()[0]
+    foretold = canal.nights[day] if day < len(canal.nights) else [(2, 2)] * len(canal.reaches)
+    more = source.choice(((0,), (0, 1, 7), (0, 0, 0, 0, -1)))
+    weather = [(max(0, comes + source.choice(more)), max(0, goes - source.choice(more))) for comes, goes in foretold]
+    return tuple(source.choice((weather, weather, weather, weather, weather[:-1], weather + [(0, 0)])))
+
+
+def some_come(source, book):
+    """A boat that comes; now and then by no name, one that is taken, from elsewhere or by a lock that is not there."""
+    canal = book.canal()
+    name = source.choice(NAMES + ("sea", "", "A", "abcdefghijklm"))
+    if not canal.locks:
+        return ("come", name, source.choice(NAMES), (("p", "up"),))
+    start, steps = some_way(source, canal)
+    named = [(canal.locks[k].name, side) for k, side in steps[:source.randrange(1, 4)]]
+    if source.random() < 0.1:
+        named.insert(source.randrange(len(named) + 1), source.choice((("none", "up"), named[0])))
+    return ("come", name, source.choice((canal.reaches[start].name,) * 8 + ("none", "sea", NAMES[0])), tuple(named))
+
+
+def some_entry(source, book):
+    """An entry of any of the six sorts: many that can be done, some that cannot, some that are refused."""
+    canal = book.canal()
+    reaches = [reach.name for reach in canal.reaches]
+    called = {"pass": book.names(), "let": [lock.name for lock in canal.locks], "take": reaches, "rain": reaches}
+    word = source.choice(("come", "come", "pass", "pass", "pass", "let", "night", "take", "rain"))
+    if word == "come" or (word == "pass" and not book.names() and source.random() < 0.9):
+        return some_come(source, book)
+    if word == "night":
+        return ("night", some_weather(source, book))
+    name = source.choice(called[word] * 6 + [source.choice(NAMES)])
+    amounts = (source.choice((0, 1, 2, 5, 9, 30)),)
+    return (word, name) + (amounts if word in ("take", "rain") else ())
+
+
+def some_books(many, seed=7):
+    """Books of small canals, without boats yet, each with a source of entries for it."""
+    source = random.Random(seed)
+    for _ in range(many):
+        canal = small_canal(source)
+        # Not many without a lock: no boat comes to these.
+        while not canal.locks and source.random() < 0.9:
+            canal = small_canal(source)
+        yield Book(canal), source
+
+
+# Chambers 3 to 5, basins 6 to 8, the sea 9, the sky 10. A lock is called like a reach, and one sea.
+STAIR = """
+reach a 5 50 2 30 sea
+reach b 5 60 1 40 a
+reach c 10 100 9 90 b
+lock p b a 10
+lock a c b 10 basin 4
+lock sea c b 6 pump 2
+night a 3 1 b 0 2
+night b 5 50 c 1 0
+"""
+STAIR_START = (30, 40, 90, 0, 0, 0, 0, 0, 0, 0, 0)
+
+# The weather that is foretold for the two nights of the stair.
+FORETOLD = ((3, 1), (0, 2), (0, 0))
+SECOND = ((0, 0), (5, 50), (1, 0))
+
+# Boats that come to the stair: two from a, one of them up and no farther, and one from c.
+UP = ("come", "x", "a", (("p", "up"),))
+FAR = ("come", "y", "a", (("p", "up"), ("a", "up")))
+DOWN = ("come", "z", "c", (("sea", "down"), ("p", "down")))
+
+
+def book_behind(*entries, text=STAIR):
+    """The book of a canal in which these entries have been done."""
+    book = Book(canal_of(text))
+    for entry in entries:
+        book.do(entry)
+    return book

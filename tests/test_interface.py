@@ -90,6 +90,24 @@ SIGNATURES = {
         "shows_closed": "(first, ahead, ended, layers)",
         "shows_found": "(first, ahead, ended, row, layers)",
     },
+    "lockhouse.look": {
+        "look": "(canal, ways, state, most)",
+        "is_knot": "(canal, ways, state)",
+        "look_for_knot": "(canal, ways, state, most)",
+        "leads_home": "(canal, ways, state, row)",
+        "shows_doom": "(canal, ways, state, layers)",
+        "shows_free": "(canal, ways, state, layers)",
+    },
+    "lockhouse.book": {
+        "Book": "(canal)",
+    },
+    "lockhouse.keeper": {
+        "Keeper": "(book, most=200)",
+    },
+    "lockhouse.advice": {
+        "waiting": "(book, name)",
+        "advice": "(book, name)",
+    },
 }
 
 METHODS = {
@@ -122,6 +140,29 @@ METHODS = {
             "weirs": "(self)",
             "start": "(self)",
             "full": "(self, waters, k)",
+        },
+    },
+    "lockhouse.book": {
+        "Book": {
+            "canal": "(self)",
+            "names": "(self)",
+            "ways": "(self)",
+            "state": "(self)",
+            "ledger": "(self)",
+            "gatework": "(self)",
+            "entries": "(self)",
+            "fault": "(self, entry)",
+            "behind": "(self, entry)",
+            "do": "(self, entry)",
+            "copied": "(self)",
+        },
+    },
+    "lockhouse.keeper": {
+        "Keeper": {
+            "wish": "(self, entry)",
+            "work": "(self)",
+            "plan": "(self)",
+            "book": "(self)",
         },
     },
 }
