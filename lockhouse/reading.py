@@ -3,7 +3,7 @@
 from lockhouse.canal import Canal, Reach, SEA, place_called
 from lockhouse.errors import BadNumber, BadRow, TooMany, Twice
 from lockhouse.kinds import BasinLock, PlainLock, PumpLock
-from lockhouse.words import is_name, number_of
+from lockhouse.words import numbers_of, refuse_no_names, rows_of
 
 MOST_REACHES = 8
 MOST_LOCKS = 8
@@ -15,9 +15,8 @@ def canal_of(text):
     reaches = []
     locks = []
     nights = []
-    for row in text.split("\n"):
-        if row != "":
-            read_row(row.split(" "), reaches, locks, nights)
+    for row in rows_of(text):
+        read_row(row.split(" "), reaches, locks, nights)
     if not reaches:
         raise BadRow("no row tells a reach")
     return Canal(reaches, locks, [widened(night, len(reaches)) for night in nights])
@@ -90,15 +89,6 @@ def lock_made(words, high, low, numbers):
     if words[5] == "basin":
         return BasinLock(words[1], high, low, numbers[0], numbers[1])
     return PumpLock(words[1], high, low, numbers[0], numbers[1])
-
-
-def numbers_of(words):
-    return [number_of(word) for word in words]
-
-
-def refuse_no_names(words):
-    if not all([is_name(word) for word in words]):
-        raise BadRow("a word that is no name")
 
 
 def refuse_told(name, things):

@@ -1,13 +1,14 @@
 """A canal shown as rows of text, as they are read."""
 
 from lockhouse.canal import SEA
+from lockhouse.words import text_of
 
 
 def shown(canal):
     rows = [reach_row(canal, reach) for reach in canal.reaches]
     rows.extend([lock_row(canal, lock) for lock in canal.locks])
     rows.extend([night_row(canal, night) for night in canal.nights])
-    return "".join([row + "\n" for row in rows])
+    return text_of(rows)
 
 
 def reach_row(canal, reach):

@@ -1,4 +1,4 @@
-"""The words of which rows are written: names and numbers."""
+"""Rows of text and the words of which they are written: names and numbers."""
 
 from lockhouse.errors import BadRow
 
@@ -24,3 +24,21 @@ def number_of(word):
     if not is_number(word):
         raise BadRow("a word that writes no number")
     return int(word)
+
+
+def numbers_of(words):
+    return [number_of(word) for word in words]
+
+
+def refuse_no_names(words):
+    if not all([is_name(word) for word in words]):
+        raise BadRow("a word that is no name")
+
+
+# Parted by line feeds alone: what Python itself takes for a row's end goes far beyond them.
+def rows_of(text):
+    return [row for row in text.split("\n") if row != ""]
+
+
+def text_of(rows):
+    return "".join([row + "\n" for row in rows])

@@ -1,15 +1,21 @@
-"""What the tests of several modules need: locks, rows of boats, canals, ways, graphs, books, and large numbers."""
+"""What the tests of several modules need: locks, rows of boats, canals, ways, graphs, books, a house's witness."""
 
 import copy
 import itertools
 import random
 
+from lockhouse.advice import advice
 from lockhouse.boats import all_home, begun, step_ends
 from lockhouse.book import Book
 from lockhouse.canal import Canal, Reach
 from lockhouse.deeds import after, may
+from lockhouse.errors import CanalError
+from lockhouse.journal import entry_of
 from lockhouse.kinds import BasinLock, PlainLock, PumpLock
+from lockhouse.look import is_knot, leads_home
 from lockhouse.reading import canal_of
+from lockhouse.walking import walked
+from lockhouse.words import is_name
 
 # As many figures as are promised.
 LARGE = 10 ** 3999
@@ -277,3 +283,159 @@ def book_behind(*entries, text=STAIR):
     for entry in entries:
         book.do(entry)
     return book
+
+
+# The words of 9.5.
+REFUSAL_WORDS = {
+    "BadRow": "row", "Twice": "twice", "TooMany": "many", "Unknown": "unknown", "NotLinked": "linked",
+    "BadNumber": "number", "TooDry": "dry", "TooWide": "wide",
+}
+
+
+def looked_ahead(canal, ways, state, ended, most):
+    """What a look must come to: ("wide", 0), ("found", the fewest deeds) or ("closed", the count of states)."""
+    seen, layer, deeds = {state}, {state}, 0
+    while len(seen) <= most:
+        if any(ended(one) for one in layer):
+            return ("found", deeds)
+        layer = {after(canal, ways, one, deed) for one in layer for deed in may(canal, ways, one)} - seen
+        if not layer:
+            return ("closed", len(seen))
+        seen |= layer
+        deeds += 1
+    return ("wide", 0)
+
+
+class Witness:
+    """Stands beside a house with a book and a plan of its own, and looks whether each answer is the one of 9.4 and 9.5.
+
+    It uses no keeper, no search and none of the house's own texts. `heard` tells of which sort an answer was.
+    """
+
+    def __init__(self, case, canal, most):
+        self.case = case
+        self.book = Book(canal)
+        self.most = most
+        self.plan = []
+
+    def heard(self, row, answer):
+        try:
+            return self.sort_of(row, answer)
+        except CanalError as error:
+            word = "refused " + REFUSAL_WORDS[type(error).__name__]
+            self.case.assertEqual(answer, word, row)
+            return word
+
+    def sort_of(self, row, answer):
+        told_plain = {"plan": self.with_deeds("plan", self.plan), "waters": self.waters()}
+        if row in told_plain:
+            self.case.assertEqual(answer, told_plain[row])
+            return row
+        if row == "work":
+            return self.worked(answer)
+        if row == "knots":
+            return self.knots(answer)
+        words = row.split(" ")
+        if words[0] == "advice" and len(words) == 2 and is_name(words[1]):
+            self.case.assertEqual(answer, " ".join(["advice"] + advice(self.book, words[1])))
+            return "advice"
+        return self.wished(row, answer)
+
+    def waters(self):
+        return "waters" + "".join(f" {water}" for water in self.book.state()[1][:len(self.book.canal().reaches)])
+
+    def called(self, kind):
+        return self.book.names() if kind == "pass" else [lock.name for lock in self.book.canal().locks]
+
+    def with_deeds(self, word, row):
+        shown = [deed[0] if deed == ("night",) else f"{deed[0]} {self.called(deed[0])[deed[1]]}" for deed in row]
+        return f"{word} " + ", ".join(shown) if shown else word
+
+    def deeds_told(self, word, answer):
+        """The deeds that an answer shows behind a word."""
+        self.case.assertTrue(answer == word or answer.startswith(word + " "), answer)
+        deeds = []
+        for shown in answer[len(word) + 1:].split(", ") if answer != word else []:
+            parts = shown.split(" ")
+            deeds.append((parts[0], self.called(parts[0]).index(parts[1])) if len(parts) == 2 else tuple(parts))
+        self.case.assertEqual(answer, self.with_deeds(word, deeds))
+        return deeds
+
+    def worked(self, answer):
+        if not self.plan:
+            self.case.assertEqual(answer, "not done")
+            return "not"
+        kind = self.plan[0][0]
+        foretold = self.book.canal().nights[self.book.state()[0]:][:1]
+        behind = tuple(foretold[0]) if kind == "night" else self.called(kind)[self.plan[0][1]]
+        self.done((kind, behind), self.plan[1:])
+        self.case.assertEqual(answer, self.with_deeds("yes", self.plan))
+        return "worked"
+
+    def done(self, entry, plan):
+        self.book.do(entry)
+        self.plan = plan
+        book = self.book
+        self.case.assertTrue(leads_home(book.canal(), book.ways(), book.state(), plan))
+
+    def is_first_deed(self, entry):
+        if not self.plan or entry[0] != self.plan[0][0]:
+            return False
+        return entry[0] == "night" or self.called(entry[0]).index(entry[1]) == self.plan[0][1]
+
+    def wished(self, row, answer):
+        entry = entry_of(row)
+        word = self.book.fault(entry)
+        if word != "":
+            self.case.assertEqual(answer, "not " + word)
+            return "not"
+        if entry[0] == "rain" or self.is_first_deed(entry):
+            self.done(entry, self.plan if entry[0] == "rain" else self.plan[1:])
+            self.case.assertEqual(answer, self.with_deeds("yes", self.plan))
+            return "kept"
+        return self.wished_by_look(entry, answer)
+
+    def wished_by_look(self, entry, answer):
+        ways, state = self.book.behind(entry)
+        found, many = looked_ahead(self.book.canal(), ways, state, lambda one: all_home(ways, one), self.most)
+        if found == "wide":
+            self.case.assertEqual(answer, "refused wide")
+            return "refused wide"
+        if found == "closed":
+            self.case.assertEqual(answer, f"no {many}")
+            return "no"
+        self.book.do(entry)
+        plan = self.deeds_told("yes", answer)
+        self.case.assertEqual(len(plan), many)
+        self.case.assertTrue(leads_home(self.book.canal(), ways, state, plan))
+        self.plan = plan
+        return "yes"
+
+    def knots(self, answer):
+        canal, ways, state = self.book.canal(), self.book.ways(), self.book.state()
+        found, many = looked_ahead(canal, ways, state, lambda one: is_knot(canal, ways, one), self.most)
+        if found == "closed":
+            self.case.assertEqual(answer, f"free {many}")
+        elif found == "found":
+            row = self.deeds_told("knot", answer)
+            self.case.assertEqual(len(row), many)
+            self.case.assertTrue(is_knot(canal, ways, walked(canal, ways, state, row)))
+        else:
+            self.case.assertEqual(answer, "refused wide")
+        return {"closed": "free", "found": "knot", "wide": "refused wide"}[found]
+
+
+def some_row(source, book):
+    """A row that a house may be asked: entries of all sorts, the other asks, and rows of no kind."""
+    locks = [lock.name for lock in book.canal().locks]
+    other = ("work", "work", "plan", "waters", "knots", "advice " + source.choice(locks + ["none", "No", ""]))
+    wrong = ("", " ", "night", "keeper", "works", "plan ", " waters", "reach a 0 9 1 5 sea", "pass", "advice", "let  p")
+    if source.random() < 0.4:
+        return source.choice(source.choice((other, other, other, wrong)))
+    return row_written(some_entry(source, book))
+
+
+def row_written(entry):
+    """The row of an entry by another road than the journal's."""
+    parts = [part if isinstance(part, tuple) else ((part,),) for part in entry]
+    return " ".join(str(word) for part in parts for pair in part for word in pair)

@@ -108,6 +108,27 @@ SIGNATURES = {
         "waiting": "(book, name)",
         "advice": "(book, name)",
     },
+    "lockhouse.journal": {
+        "written": "(entries)",
+        "entry_of": "(row)",
+        "entries_of": "(text)",
+    },
+    "lockhouse.revival": {
+        "replayed": "(canal, entries)",
+        "revived": "(canal, entries, most=200)",
+    },
+    "lockhouse.asks": {
+        "parted": "(text)",
+        "most_of": "(row)",
+    },
+    "lockhouse.answers": {
+        "deeds_shown": "(canal, names, row)",
+        "answer_shown": "(canal, names, answer)",
+    },
+    "lockhouse.house": {
+        "House": "(text)",
+        "run": "(text)",
+    },
 }
 
 METHODS = {
@@ -163,6 +184,13 @@ METHODS = {
             "work": "(self)",
             "plan": "(self)",
             "book": "(self)",
+        },
+    },
+    "lockhouse.house": {
+        "House": {
+            "canal": "(self)",
+            "keeper": "(self)",
+            "ask": "(self, row)",
         },
     },
 }

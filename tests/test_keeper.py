@@ -1,4 +1,4 @@
-"""7.5 to 7.8 (and 0.2, 0.3, 0.5): how a keeper is made, what it answers to a wish and a work, and what its plan does."""
+"""7.5 to 7.8 (and 0.2, 0.3, 0.5): how a keeper is made, its answers to a wish and a work, and what its plan does."""
 
 import unittest
 from unittest import mock

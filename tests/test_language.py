@@ -2,6 +2,7 @@
 
 import ast
 import builtins
+import functools
 import pathlib
 import re
 import unittest
@@ -44,6 +45,7 @@ def sources():
     return {path: path.read_text(encoding="utf-8") for path in sorted(PACKAGE.rglob("*.py"))}
 
 
+@functools.lru_cache(maxsize=None)
 def trees():
     return {path: ast.parse(text) for path, text in sources().items()}
 
@@ -172,6 +174,53 @@ class Language(unittest.TestCase):
         own = {n.name for p, n in nodes_of(ast.FunctionDef)}
         self.none([(p, n) for p, n in nodes_of(ast.Call) if isinstance(n.func, ast.Attribute)
                    and n.func.attr not in OWN_METHODS | own | DUNDERS])
+
+    def test_refusals_are_taken_and_raised_by_name(self):
+        own = {node.name for path, node in nodes_of(ast.ClassDef) if path.name == "errors.py"}
+        for path, node in nodes_of(ast.ExceptHandler):
+            self.assertIn(getattr(node.type, "id", None), own, (path.name, node.lineno))
+        for path, node in nodes_of(ast.Raise):
+            self.assertIsInstance(node.exc, ast.Call, (path.name, node.lineno))
+            self.assertIn(node.exc.func.id, own - {"CanalError"}, (path.name, node.lineno))
+
+    def test_what_is_raised_within_a_handler_comes_from_its_own_error(self):
+        for path, handler in nodes_of(ast.ExceptHandler):
+            causes = [node.cause for node in ast.walk(handler) if isinstance(node, ast.Raise)]
+            self.assertEqual([getattr(cause, "id", None) for cause in causes], [handler.name] * len(causes), path.name)
+
+    def test_texts(self):
+        texts = [(p, n) for p, n in nodes_of(ast.Constant) if isinstance(n.value, str)]
+        self.none([(p, n) for p, n in texts if chr(37) in n.value])
+        filled = nodes_of(ast.FormattedValue)
+        self.none([(p, n) for p, n in filled if not isinstance(n.value, ast.Name) or n.format_spec])
+
+    def test_of_the_methods_with_two_underscores_only_init(self):
+        self.none([(p, n) for p, n in nodes_of(ast.FunctionDef) if n.name.startswith("__") and n.name != "__init__"])
+
+    def test_lazy_walks_are_walked_on_the_spot(self):
+        lazy = ("zip", "enumerate", "reversed", "range", "items", "keys", "values")
+        walkers = ("list", "tuple", "dict", "sorted", "sum", "any", "all", "enumerate", "zip", "min", "max", "reversed")
+        for path, tree in trees().items():
+            walked = []
+            for node in ast.walk(tree):
+                if isinstance(node, (ast.For, ast.comprehension)):
+                    walked.append(node.iter)
+                if isinstance(node, ast.Call) and getattr(node.func, "id", "") in walkers:
+                    walked.extend(node.args[:1])
+            self.none([(path, node) for node in ast.walk(tree) if isinstance(node, ast.Call) and node not in walked
+                       and getattr(node.func, "id", getattr(node.func, "attr", "")) in lazy])
+
+    def test_sets_are_neither_kept_nor_walked(self):
+        for path, tree in trees().items():
+            beside = []
+            for node in ast.walk(tree):
+                if isinstance(node, ast.Compare):
+                    beside.extend([node.left] + node.comparators)
+                if isinstance(node, ast.Call) and getattr(node.func, "id", "") in ("sorted", "len"):
+                    beside.extend(node.args)
+            self.none([(path, node) for node in ast.walk(tree) if isinstance(node, ast.Call) and node not in beside
+                       and getattr(node.func, "id", "") in ("set", "frozenset")])
+            self.none([(path, node) for node in ast.walk(tree) if isinstance(node, ast.Set)])
 
     def test_is_stands_beside_none_true_and_false_alone(self):
         for path, node in nodes_of(ast.Compare):
